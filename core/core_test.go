@@ -76,3 +76,23 @@ func TestTableTellsNodesApart(t *testing.T) {
 		t.Errorf("%d nodes at the second time, want %d", table.Count(), len(different))
 	}
 }
+
+func TestNodesStandBehindTheirParts(t *testing.T) {
+	var table Table
+	for _, text := range []string{"H[0,1](a | b)", "(a S[0,1] Y[2,3](a | b))", "b"} {
+		number := table.Put(mustRead(t, text))
+		if got := table.Nodes(); len(got) != table.Count() || number > len(got) {
+			t.Errorf("%d nodes for %d, and one of number %d", len(got), table.Count(), number)
+		}
+	}
+	nodes := table.Nodes()
+	for i, n := range nodes {
+		if n.Left > i || n.Right > i {
+			t.Errorf("node %d has the parts %d and %d", i+1, n.Left, n.Right)
+		}
+	}
+	nodes[0] = Node{}
+	if table.Nodes()[0] == nodes[0] {
+		t.Error("the list of nodes is the table's own")
+	}
+}
