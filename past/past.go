@@ -77,6 +77,9 @@ func (p *Past) Take(time int, atoms []string) Event {
 // Kept tells how many events are kept.
 func (p *Past) Kept() int { return len(p.events) }
 
+// Work tells how many nodes are worked out at each event.
+func (p *Past) Work() int { return len(p.nodes) }
+
 // Judge takes other nodes, each behind its parts, and works them out at all kept events.
 // At the oldest ones that may go wrong, for want of what was dropped; but whoever keeps to
 // CheckReach asks, from the next event on, only for what hangs on kept events alone.

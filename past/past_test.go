@@ -81,6 +81,25 @@ func TestNodesAreWorkedOutAtTakenAndAtKeptEvents(t *testing.T) {
 	}
 }
 
+func TestWorkIsWhatAnEventTakes(t *testing.T) {
+	p := mustNew(t, 5, 3)
+	for time, c := range []struct {
+		text string
+		want int
+	}{{"a", 1}, {"(a | b)", 6}, {"!!O[0,1](a & a)", 3}} {
+		judged(t, p, c.text)
+		e := p.Take(time, nil)
+		// The first answer of an event is that of no node.
+		if p.Work() != c.want || len(e.so) != c.want+1 {
+			t.Errorf("%s: %d nodes of %d are worked out, want %d", c.text, len(e.so)-1, p.Work(), c.want)
+		}
+	}
+	p.Judge(nil)
+	if p.Work() != 0 {
+		t.Errorf("Work() = %d without nodes", p.Work())
+	}
+}
+
 func TestErrorsTellWhatTheyAreAbout(t *testing.T) {
 	p := mustNew(t, 5, 1)
 	p.Take(3, nil)

@@ -192,6 +192,34 @@ func (h *history) add(name string, s saying) ([]api.Verdict, api.Errno) {
 	return h.backfill(p), api.OK
 }
 
+func (h *history) amend(name string, s saying) ([]api.Verdict, api.Errno) {
+	_, e := Print(s.text)
+	p := h.rules[name]
+	switch {
+	case e != api.OK:
+		return nil, e
+	case s.reach > h.retain:
+		return nil, api.ErrFar
+	case p == nil:
+		return nil, api.ErrNone
+	case h.tooManyNodes(s, name):
+		return nil, api.ErrNodes
+	}
+	p.saying = s
+	p.version++
+	return h.backfill(p), api.OK
+}
+
+// work counts the nodes of all rules.
+func (h *history) work() int {
+	var texts []string
+	for _, p := range h.rules {
+		texts = append(texts, p.saying.text)
+	}
+	n, _ := Nodes(texts)
+	return n
+}
+
 func (h *history) remove(name string) api.Errno {
 	if h.rules[name] == nil {
 		return api.ErrNone
@@ -238,17 +266,25 @@ func checkState(t *testing.T, m *Monitor, h *history) {
 	if got := m.Kept(); got != h.kept() {
 		t.Fatalf("P6: Kept() = %d, want %d", got, h.kept())
 	}
+	if got := m.Work(); got != h.work() {
+		t.Fatalf("P9: Work() = %d, want %d", got, h.work())
+	}
 }
 
 // step makes one call, by chance, of both, and gives what both answered.
 func step(r *rand.Rand, m *Monitor, h *history) (call string, got, want []api.Verdict, e, wanted api.Errno) {
 	name := ruleNames[r.IntN(len(ruleNames))]
-	switch r.IntN(12) {
+	switch r.IntN(14) {
 	case 0, 1:
 		s := makeSaying(r, 1+r.IntN(8))
 		got, e = m.Add(name, s.text)
 		want, wanted = h.add(name, s)
 		return "Add(" + name + ", " + s.text + ")", got, want, e, wanted
+	case 4, 5:
+		s := makeSaying(r, 1+r.IntN(8))
+		got, e = m.Amend(name, s.text)
+		want, wanted = h.amend(name, s)
+		return "Amend(" + name + ", " + s.text + ")", got, want, e, wanted
 	case 2:
 		if r.IntN(3) > 0 {
 			break

@@ -123,7 +123,7 @@ func TestEveryCallOfAMonitorEnds(t *testing.T) {
 		m := newMonitor(t, r.IntN(3), 1+r.IntN(3))
 		for range 100 {
 			number, text := numbers[r.IntN(len(numbers))], texts[r.IntN(len(texts))]
-			switch r.IntN(6) {
+			switch r.IntN(7) {
 			case 0:
 				m.Event(number, texts[:r.IntN(len(texts))])
 			case 1:
@@ -136,6 +136,8 @@ func TestEveryCallOfAMonitorEnds(t *testing.T) {
 				m.Ack(text, number)
 			case 5:
 				m.Stream(text)
+			case 6:
+				m.Amend(text, texts[r.IntN(len(texts))])
 			}
 			if kept := m.Kept(); kept < 0 || kept > 3 || len(m.List()) > 2 {
 				t.Fatalf("P1: %d events, policies %q", kept, m.List())

@@ -65,7 +65,10 @@ func (m *Monitor) Add(name string, text string) ([]api.Verdict, api.Errno) {
 }
 
 // Amend gives a policy another sentence (P7).
-func (m *Monitor) Amend(name string, text string) ([]api.Verdict, api.Errno) { return nil, api.OK }
+func (m *Monitor) Amend(name string, text string) ([]api.Verdict, api.Errno) {
+	backfill, err := m.watch.Amend(name, text)
+	return backfill, errno(err)
+}
 
 // Remove removes a policy (P7).
 func (m *Monitor) Remove(name string) api.Errno {
@@ -90,4 +93,4 @@ func (m *Monitor) List() []string { return m.watch.List() }
 func (m *Monitor) Kept() int { return m.watch.Kept() }
 
 // Work tells how many nodes are worked out at each event (P9).
-func (m *Monitor) Work() int { return 0 }
+func (m *Monitor) Work() int { return m.watch.Work() }

@@ -76,6 +76,30 @@ func (w *Watch) add(name, text string) (int, error) {
 	return place, w.settle(slices.Insert(slices.Clone(w.policies), place, p))
 }
 
+// Amend gives a policy another sentence, and gives its backfill.
+func (w *Watch) Amend(name, text string) ([]api.Verdict, error) {
+	place, err := w.amend(name, text)
+	if err != nil {
+		return nil, &PolicyError{name, err}
+	}
+	return w.backfill(place), nil
+}
+
+func (w *Watch) amend(name, text string) (int, error) {
+	s, err := w.read(name, text)
+	if err != nil {
+		return 0, err
+	}
+	place, there := w.find(name)
+	if !there {
+		return 0, ErrNone
+	}
+	policies := slices.Clone(w.policies)
+	policies[place].sentence = s
+	policies[place].version++
+	return place, w.settle(policies)
+}
+
 // Remove removes a policy, and its stream with it.
 func (w *Watch) Remove(name string) error {
 	place, there := w.find(name)
@@ -117,3 +141,6 @@ func (w *Watch) List() []string {
 
 // Kept tells how many events are kept.
 func (w *Watch) Kept() int { return w.past.Kept() }
+
+// Work tells how many nodes are worked out at each event.
+func (w *Watch) Work() int { return w.past.Work() }

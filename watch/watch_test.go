@@ -2,6 +2,8 @@ package watch
 
 import (
 	"errors"
+	"strconv"
+	"strings"
 	"testing"
 
 	"vigil/api"
@@ -28,12 +30,15 @@ func TestErrorsAreWrappedWithTheirPolicy(t *testing.T) {
 	_, tooFar := w.Add("p", "O[0,6]a")
 	_, twice := w.Add("there", "a")
 	_, noStream := w.Stream("p")
+	_, noPolicy := w.Amend("p", "a")
+	_, noSuchText := w.Amend("there", "")
 	for _, c := range []struct {
 		err    error
 		policy string
 		bottom error
 	}{
 		{noName, "", ErrNoName}, {noText, "p", sentence.ErrNoSentence}, {twice, "there", ErrTwice},
+		{noPolicy, "p", ErrNone}, {noSuchText, "there", sentence.ErrNoSentence},
 		{noStream, "p", ErrNone}, {w.Remove("q"), "q", ErrNone}, {w.Ack("r", 0), "r", ErrNone},
 	} {
 		var about *PolicyError
@@ -49,6 +54,26 @@ func TestErrorsAreWrappedWithTheirPolicy(t *testing.T) {
 	var out *past.OutOfRange
 	if err := w.Ack("there", 1); !errors.As(err, &out) || out.Value != 1 || out.Most != 0 {
 		t.Errorf("Ack: %v", err)
+	}
+}
+
+func TestTooManyNodesAreCounted(t *testing.T) {
+	w := mustNew(t, api.MaxRetain, 5)
+	chain := func(window, length int) string { return strings.Repeat("O[0,"+strconv.Itoa(window)+"]", length) + "a" }
+	for i, name := range []string{"p", "q", "r"} {
+		if _, err := w.Add(name, chain(i, 11)); err != nil {
+			t.Fatal(err)
+		}
+	}
+	var many *TooManyNodes
+	if _, err := w.Add("s", chain(3, 11)); !errors.As(err, &many) || many.Count != 1+4*11 {
+		t.Errorf("Add: %v", err)
+	}
+	if _, err := w.Amend("r", "("+chain(3, 10)+" & "+chain(4, 10)+")"); !errors.As(err, &many) || many.Count != 1+2*11+2*10+1 {
+		t.Errorf("Amend: %v", err)
+	}
+	if _, err := w.Amend("r", chain(3, 11)); err != nil {
+		t.Errorf("Amend: %v", err)
 	}
 }
 
